@@ -1,0 +1,18 @@
+import unittest
+from pathlib import Path
+
+README = Path(__file__).resolve().parent.parent / "README.md"
+
+
+class TestReadme(unittest.TestCase):
+
+    def test_the_example_runs(self):
+        _, _, rest = README.read_text().partition("```python\n")
+        names = {}
+        exec(rest.partition("```")[0], names)
+        kept = names["sieve"](names["table"], names["plan"], names["draws"])
+        self.assertLessEqual(set(kept), {0, 1, 2})
+
+
+if __name__ == "__main__":
+    unittest.main()
