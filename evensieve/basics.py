@@ -31,3 +31,19 @@ def is_name(value):
     if not isinstance(value, str) or not 1 <= len(value) <= LONGEST_NAME:
         return False
     return value not in RESERVED and all([sign in LETTERS for sign in value])
+
+
+def tuples_of(rows):
+    """The list of all tuples with one item of each of some rows, in the order of their items."""
+    found = [()]
+    for row in rows:
+        found = [start + (item,) for start in found for item in row]
+    return found
+
+
+def some_of(row):
+    """The ascending list of all tuples of some items of an ascending row, in their order."""
+    found = [()]
+    for item in row:
+        found = found + [some + (item,) for some in found]
+    return sorted(found)

@@ -65,10 +65,15 @@ def is_fraction(value):
     return is_whole(above) and is_whole(below) and below >= 1 and gcd(above, below) == 1
 
 
-def ascending(rows):
-    """The different ones of a row of fractions, from the least to the greatest."""
+def common(rows):
+    """A row of fractions as the tuple of their first numbers over one second number, and this."""
     below = 1
     for row in rows:
         below = lcm(below, row[1])
-    found = {row[0] * (below // row[1]): row for row in rows}
+    return tuple([row[0] * (below // row[1]) for row in rows]), below
+
+
+def ascending(rows):
+    """The different ones of a row of fractions, from the least to the greatest."""
+    found = dict(zip(common(rows)[0], rows))
     return tuple([found[above] for above in sorted(found)])
