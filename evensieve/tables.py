@@ -69,6 +69,18 @@ class Table:
         return isinstance(other, Table) and self.columns == other.columns and self.rows == other.rows
 
 
+def table_sharing(columns, rows, shared):
+    """A table of rows with some values, of which any two have the same entities of just some kinds.
+
+    All numbers in its columns of sums are 1.
+    """
+    told = []
+    for number, values in enumerate(rows):
+        keys = tuple([0 if KEY + name in shared else number for name in columns.hashed])
+        told.append((0 if "block" in shared else number, keys, values, (1,) * len(columns.summed)))
+    return Table(columns, told)
+
+
 def wrong_part(hashed, asked, summed):
     """The first part of columns that is not as it must be, or None."""
     if not are_names(hashed, MOST_HASHED):

@@ -12,6 +12,9 @@ class TestReadme(unittest.TestCase):
         exec(rest.partition("```")[0], names)
         kept = names["sieve"](names["table"], names["plan"], names["draws"])
         self.assertLessEqual(set(kept), {0, 1, 2})
+        self.assertIn("# " + names["text"] + "\n", README.read_text())
+        for name in ("told", "hand"):
+            self.assertTrue(names[name].shows(names["columns"], names["plan"], names["where"]))
 
 
 if __name__ == "__main__":
