@@ -31,7 +31,7 @@ def kernel_of(columns, plans, at):
     asks = asks_in(plans)
     keeping = Keeping(plans, plans[at])
     weights = {kind: weights_of(plans, plans[at], kind) for kind in keeping.drawn_kinds}
-    return Kernel(weights, [(keeping.drawn_kinds, keeping.chances(dict(zip(asks, answers)))) for answers, _ in types])
+    return Kernel(weights, [(keeping.drawn_kinds, keeping.shares(dict(zip(asks, answers)))) for answers, _ in types])
 
 
 def chance_one(kernel, number):

@@ -2,7 +2,7 @@
 
 from evensieve.draws import kind_of, lengths, tests_in
 from evensieve.errors import TooLarge
-from evensieve.plans import asks_of
+from evensieve.plans import asks_of, checked_plan
 
 BOUNDS = (36, 6, 64, 6, 20000)
 
@@ -23,6 +23,13 @@ def check_measures(columns, plans):
     for number, most in zip(measures(columns, plans), BOUNDS):
         if number > most:
             raise TooLarge(number)
+
+
+def check_plans(columns, plans):
+    """Raise BadPlan of the first plan that is none, or TooLarge of all together."""
+    for plan in plans:
+        checked_plan(columns, plan)
+    check_measures(columns, plans)
 
 
 def cells_of(plans, kind):

@@ -1,6 +1,6 @@
 """Reduced kernels, in which all states differ, and the matchings of two of them."""
 
-from evensieve.basics import tuples_of
+from evensieve.basics import is_between, tuples_of
 from evensieve.fractions import total
 from evensieve.kernels import Kernel, held_states
 
@@ -53,6 +53,29 @@ def matchings(one, other, is_weighed, most):
     search = Search(one, other, is_weighed, most)
     search.go_on({})
     return search.found
+
+
+def is_matching(one, other, maps):
+    """Whether a dict is a matching of two reduced kernels that keeps weights."""
+    if form_of(one) != form_of(other) or len(maps) != len(one.weights):
+        return False
+    for kind, weights in one.weights.items():
+        if not is_order(maps.get(kind), len(weights)):
+            return False
+        if weights != tuple([other.weights[kind][goal] for goal in maps[kind]]):
+            return False
+    for (kinds, chances), (_, others) in zip(one.functions, other.functions):
+        for states, chance in chances.items():
+            if chance != others[tuple([maps[kind][state] for kind, state in zip(kinds, states)])]:
+                return False
+    return True
+
+
+def is_order(value, many):
+    """Whether a value is a tuple of the integers from 0 to less than many, each once."""
+    if not isinstance(value, tuple) or not all([is_between(number, 0, many - 1) for number in value]):
+        return False
+    return sorted(value) == list(range(many))
 
 
 def form_of(kernel):

@@ -34,6 +34,14 @@ def weights_of(plans, plan, kind):
     return tuple([product_of(parts) for parts in tuples_of(rows)])
 
 
+def many_states(plans, plan, kind):
+    """The number of the states of a kind by one of some plans."""
+    many = 1
+    for test in draws_of(plan, kind):
+        many *= len(lengths(plans, test))
+    return many
+
+
 class Keeping:
     """How one of some plans keeps rows, given the states of their entities.
 
@@ -73,7 +81,7 @@ class Keeping:
             found[states] = known[cells]
         return found
 
-    def chances(self, answers):
+    def shares(self, answers):
         """A dict from tuples of numbers of states to the chances that a row is kept."""
         return {states: lowest(above, self.below) for states, above in self.counts(answers).items()}
 

@@ -28,6 +28,24 @@ def fraction(value):
     return Fraction(*value)
 
 
+def both(*formulas):
+    return ("and", formulas)
+
+
+def either(*formulas):
+    return ("or", formulas)
+
+
+def negated(formula):
+    return ("not", formula)
+
+
+def cut(test, many):
+    """A plan by which a draw has so many parts."""
+    parts = [test + (pair(Fraction(number, many)),) for number in range(1, many)]
+    return ("or", (("none",), *parts, ("none",)))
+
+
 def every_sieving(table, plan):
     """All lots that are kept, with the chance of each way in which numbers can lie."""
     keys = needed(table, [plan])
@@ -107,3 +125,46 @@ class Plans:
 
 def draws_in(plan):
     return len(tests_in([plan]))
+
+
+def every_drawing(tables, plans, shared):
+    """All ways in which the numbers lie at which the plans of joined tables look, with their chances.
+
+    Tables have the draws from shared key columns in common. A way is a list of draws for each table.
+    """
+    keys = [[(key, key if key[0] == "hash" and key[1] in shared else (table,) + key) for key in needed(rows, [plan])]
+            for table, (rows, plan) in enumerate(zip(tables, plans))]
+    owners = {}
+    for own, plan in zip(keys, plans):
+        for key, name in own:
+            owners.setdefault(name, (key[:-1], []))[1].append(plan)
+    names = list(owners)
+    parts = [list(zip(thresholds(own, test), lengths(own, test))) for test, own in owners.values()]
+    for ways in itertools.product(*parts):
+        chance = Fraction(1)
+        for _, length in ways:
+            chance *= fraction(length)
+        lows = dict(zip(names, [low for low, _ in ways]))
+        yield [{key: lows[name] for key, name in own} for own in keys], chance
+
+
+def joined_rows(tables, shared):
+    """All joined rows, as tuples of numbers of rows, by shared key columns."""
+    found = []
+    for rows in itertools.product(*[range(len(table)) for table in tables]):
+        known = {}
+        if all(known.setdefault(name, integer) == integer for table, row in zip(tables, rows)
+               for name, integer in zip(table.columns.hashed, table.rows[row][1]) if name in shared):
+            found.append(rows)
+    return found
+
+
+def joined_law(tables, plans, shared):
+    """The chances of all lots of joined rows that are kept."""
+    joined = joined_rows(tables, shared)
+    told = {}
+    for draws, chance in every_drawing(tables, plans, shared):
+        kept = [set(sieve(table, plan, own)) for table, plan, own in zip(tables, plans, draws)]
+        lot = tuple(rows for rows in joined if all(row in own for row, own in zip(rows, kept)))
+        told[lot] = told.get(lot, 0) + chance
+    return {lot: told[lot] for lot in sorted(told)}
