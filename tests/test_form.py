@@ -51,10 +51,30 @@ INTERFACE = {
     "kernels": "Kernel(weights,functions) Kernel.kinds() Kernel.__eq__(other) kernel_of(columns,plans,at) "
                "chance_one(kernel,number) chance_two(kernel,number,other,shared)",
     "reduced": "reduced(kernel) matchings(one,other,is_weighed,most)",
+    "same": "Same(maps) Unlike(which,chosen,chances) Same.shows(columns,one,other) Unlike.shows(columns,one,other) "
+            "Same.shows_kernels(pair) Unlike.shows_kernels(pair) judge_pair(pair) judge_same(columns,one,other) "
+            "classes_of(columns,plans)",
+    "apart": "all_kept(columns,plans,at,table) Apart(table,chances) Apart.shows(columns,one,other) Apart.__eq__(other) "
+             "table_apart(columns,one,other,most)",
+    "joins": "judge_join(one,other,key,first,second) shows_join(told,one,other,key,first,second) "
+             "join_chance(one,other,key,pair)",
+    "nested": "Within Outside(row,draws) Within.shows(columns,one,other) Outside.shows(columns,one,other) "
+              "judge_within(columns,one,other)",
+    "offers": "Cheapest(number,paper,against) Cheapest.shows(columns,wanted,offers) cheapest_same(columns,wanted,offers) "
+              "reading(columns,plan,table)",
+    "natural": "judge_joined(columns,one,other) shows_joined(told,columns,one,other)",
+    "pushes": "pushes(columns,plans) Pushed(number,costs) Pushed.shows(columns,plans,tables,prices) Pushed.__eq__(other) "
+              "cheapest_push(columns,plans,tables,prices)",
+    "joinsums": "JoinWeights(weights) JoinUnseen(rows) JoinWeights.shows(one,other,key,pair,wheres) "
+                "JoinUnseen.shows(one,other,key,pair,wheres) judge_join_sum(one,other,key,pair,wheres) "
+                "true_join_sum(tables,key,wheres,names) join_variance(tables,key,pair,wheres,names) "
+                "join_estimate(tables,key,pair,wheres,weights,lots,names)",
+    "sieveerrors": "BadMost(most) BadKey(key) BadOffers(number) BadLists(number) BadPrices(number)",
     "arrays": "Array(sizes,entries) Array.__eq__(other) array_of(kernel,chosen) array_chance(kernel,array)",
 }
 EVIDENCE = {"sums": "Weights Unseen", "keysums": "KeysTold KeysAstray", "variances": "ErrAlike ErrUnlike",
-            "onhand": "HandWeights NeverBoth"}
+            "onhand": "HandWeights NeverBoth", "same": "Same Unlike", "nested": "Within Outside", "offers": "Cheapest",
+            "joinsums": "JoinWeights JoinUnseen"}
 # These words occur in comments and docstrings alone.
 BARRED_WORDS = {"type", "typing", "enum", "Enum", "Flag", "Generic", "Protocol", "ABC", "namedtuple", "dataclass",
                 "overload", "contextmanager"}
@@ -267,7 +287,8 @@ class TestForm(unittest.TestCase):
                     for function in functions_of(node):
                         if function.name == "__eq__":
                             told = ast.unparse(function.body[0])
-                            self.assertTrue(told.startswith(f"return isinstance(other, {node.name}) and "), told)
+                            first = (f"return isinstance(other, {node.name}) and ", f"if not isinstance(other, {node.name}):\n")
+                            self.assertTrue(told.startswith(first), told)
 
 
 class TestInterface(unittest.TestCase):
@@ -284,7 +305,8 @@ class TestInterface(unittest.TestCase):
                 self.assertLessEqual({name + ".__bool__()", name + ".__eq__(other)"}, told)
 
     def test_attributes_are_set_when_objects_are_created(self):
-        names = " ".join(EVIDENCE.values()).split() + ["Kernel", "Array"]
+        names = " ".join(EVIDENCE.values()).split() + ["Kernel", "Array", "Apart", "Pushed"]
+        names.remove("Within")
         classes = [node for _, tree in trees() for node in tree.body if isinstance(node, ast.ClassDef) and node.name in names]
         self.assertEqual(len(classes), len(names))
         for node in classes:

@@ -13,6 +13,8 @@ class TestReadme(unittest.TestCase):
         kept = names["sieve"](names["table"], names["plan"], names["draws"])
         self.assertLessEqual(set(kept), {0, 1, 2})
         self.assertIn("# " + names["text"] + "\n", README.read_text())
+        self.assertTrue(names["alike"])
+        self.assertTrue(names["joined"])
         for name in ("told", "hand"):
             self.assertTrue(names[name].shows(names["columns"], names["plan"], names["where"]))
 
