@@ -30,15 +30,22 @@ class Cheapest:
         checked_plan(columns, wanted)
         numbers = by_price(offers)
         shown = [self.shows_offer(number, columns, wanted, offers) for number in numbers if self.names_offer(number)]
+        return self.names_just(numbers) and all(shown)
+
+    def names_just(self, numbers):
+        """Whether, of the numbers of offers by price, just one with a paper and those ahead of it are named.
+
+        If no number is told, there is no paper, and all offers are ahead.
+        """
+        if (self.number is None) != (self.paper is None):
+            return False
         if self.number is None:
-            ahead = numbers if self.paper is None else []
+            ahead = numbers
         elif self.number in numbers:
             ahead = numbers[:numbers.index(self.number)]
         else:
             return False
-        if len(self.against) != len(ahead) or not all([number in self.against for number in ahead]):
-            return False
-        return all(shown)
+        return len(self.against) == len(ahead) and all([number in self.against for number in ahead])
 
     def names_offer(self, number):
         """Whether an offer is the told one, or one that is told not to do."""

@@ -1,5 +1,6 @@
 import unittest
 from fractions import Fraction
+from itertools import chain, combinations, product
 
 from evensieve.draws import lengths, thresholds
 from evensieve.errors import BadPlan, TooLarge
@@ -153,6 +154,55 @@ class TestCheapest(Refusing):
                 (2, Same({}), {**papers, 2: papers[0]}), (2, Same({}), {**papers, 7: papers[0]}), (None, None, {}),
                 (3, Same({}), {**papers, 2: papers[0]})):
             self.assertIs(Cheapest(number, paper, against).shows(COLUMNS, ROW, self.OFFERS), False, (number, against))
+
+    def every_cheapest(self, wanted, offers):
+        """All Cheapests of some numbers, papers and offers in against, and whether they should show.
+
+        Each Unlike in against shows what it should, wherever there is one that does.
+        """
+        numbers = range(len(offers))
+        told = cheapest_same(COLUMNS, wanted, offers)
+        judged = {at: judge_same(COLUMNS, wanted, offers[at][1]) for at in numbers}
+        spare = judge_same(COLUMNS, ALL, ROW)
+        unlike = {at: spare if judged[at] else judged[at] for at in numbers}
+        papers = [None, judge_same(COLUMNS, wanted, wanted), spare, *[judged[at] for at in numbers if judged[at]]]
+        for number, paper in product([None, *numbers], papers):
+            for named in chain.from_iterable(combinations(numbers, many) for many in range(len(offers) + 1)):
+                against = {at: unlike[at] for at in named}
+                yield Cheapest(number, paper, against), (number, paper, against) == (told.number, told.paper,
+                                                                                    told.against)
+
+    def test_number_and_paper_are_none_together(self):
+        plans = [ROW, ROWS[2], BLOCK, BLOCKS[1], ALL]
+        lists = [[(1, plan)] for plan in plans]
+        lists += [[(price, one), (2, other)] for price in (1, 2, 3) for one in plans for other in plans]
+        lists += [[(3, ROW), (1, BLOCK), (2, ALL)], [(2, KEY), (2, BLOCK), (2, ALL)], [(1, ROW), (1, ROW), (0, ROW)],
+                  [(4, BLOCK), (3, BLOCKS[1]), (2, ROW), (1, ALL)], [(0, KEY), (0, ALL), (0, NONE), (0, LESS)]]
+        for wanted in (ROW, BLOCK):
+            for offers in lists:
+                parted = [0, 0]
+                for cheapest, should in self.every_cheapest(wanted, offers):
+                    told = (wanted, offers, cheapest.number, cheapest.paper, sorted(cheapest.against))
+                    self.assertIs(cheapest.shows(COLUMNS, wanted, offers), should, told)
+                    if (cheapest.number is None) != (cheapest.paper is None):
+                        self.assertIs(should, False)
+                        parted[cheapest.number is None] += 1
+                self.assertGreaterEqual(min(parted), 2 ** len(offers))
+
+    def test_a_paper_without_a_number(self):
+        offers = [(3, ROWS[1])]
+        paper = cheapest_same(COLUMNS, ROW, offers).paper
+        for wrong in (paper, judge_same(COLUMNS, ROW, BLOCK), Same({"block": (0, 1)})):
+            self.assertIs(Cheapest(None, wrong, {}).shows(COLUMNS, ROW, offers), False)
+            self.assertIs(Cheapest(None, wrong, {}).shows(COLUMNS, ROW, self.OFFERS), False)
+            self.assertIs(Cheapest(None, wrong, self.papers()).shows(COLUMNS, ROW, self.OFFERS[:2]), False)
+        self.assertIs(Cheapest(None, None, self.papers()).shows(COLUMNS, ROW, self.OFFERS[:2]), True)
+
+    def test_a_number_without_a_paper(self):
+        for number, offer in enumerate(self.OFFERS[:4]):
+            self.assertIs(Cheapest(number, None, {}).shows(COLUMNS, ROW, self.OFFERS), False)
+            self.assertIs(Cheapest(number, None, self.papers()).shows(COLUMNS, ROW, self.OFFERS), False)
+            self.assertIs(Cheapest(0, None, {}).shows(COLUMNS, offer[1], [offer]), False)
 
     def test_just_the_offers_ahead(self):
         offers = [(5, BLOCK), (2, KEY), (5, ROWS[1]), (5, ALL)]
